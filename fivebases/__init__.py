@@ -1,0 +1,1 @@
+"""Symmetric functions in five bases, with papers of every change."""
