@@ -5,11 +5,12 @@ from math import lcm
 from fivebases.errors import Malformed, Refused
 from fivebases.partition import shares
 from fivebases.ratio import Ratio, digits_of, is_integer, one, total, zero
+from fivebases.terms import added_up, checked_pairs, signed_words, unsigned
 
 _MOST_LETTERS = 8
 
 
-def _check_number(n):
+def check_number(n):
     """Refuses what cannot be a number of letters."""
     if not is_integer(n):
         raise Malformed("the number of letters is no integer")
@@ -24,34 +25,6 @@ def _is_exponent(value, n):
     if not isinstance(value, tuple) or len(value) != n:
         return False
     return all([is_integer(item) and item >= 0 for item in value])
-
-
-def _checked_pair(n, pair):
-    """The exponent and the coefficient, as a `Ratio`, of a pair."""
-    if not isinstance(pair, tuple) or len(pair) != 2:
-        raise Malformed("a term is no pair")
-    exponent, coefficient = pair
-    if not _is_exponent(exponent, n):
-        raise Malformed("an exponent has not one integer from 0 on for each letter")
-    if isinstance(coefficient, Ratio):
-        return exponent, coefficient
-    if not is_integer(coefficient):
-        raise Malformed("a coefficient is no number")
-    return exponent, Ratio(coefficient)
-
-
-def _added_up(n, pairs):
-    """The dict from exponents to their coefficients, zeros left out."""
-    if not isinstance(pairs, (list, tuple)):
-        raise Malformed("the terms are no list or tuple")
-    sums = {}
-    for pair in pairs:
-        exponent, coefficient = _checked_pair(n, pair)
-        if exponent in sums:
-            sums[exponent] = sums[exponent] + coefficient
-        else:
-            sums[exponent] = coefficient
-    return {exponent: sums[exponent] for exponent in sums if not sums[exponent].is_zero()}
 
 
 def _check_same_number(a, b):
@@ -131,18 +104,21 @@ def _letter_text(i, exponent):
 def _term_text(exponent, coefficient):
     """The text of a term without its sign."""
     words = [_letter_text(k + 1, item) for k, item in enumerate(exponent) if item > 0]
-    unsigned = -coefficient if coefficient.sign() < 0 else coefficient
-    if words and unsigned == one():
+    number = unsigned(coefficient)
+    if words and number == one():
         return "*".join(words)
-    return "*".join([str(unsigned)] + words)
+    return "*".join([str(number)] + words)
 
 
 class Letters:
     """A polynomial in `n` letters; its terms descend by their exponents."""
 
     def __init__(self, n, pairs):
-        _check_number(n)
-        sums = _added_up(n, pairs)
+        check_number(n)
+        checked = checked_pairs(pairs)
+        if not all([_is_exponent(exponent, n) for exponent, _ in checked]):
+            raise Malformed("an exponent has not one integer from 0 on for each letter")
+        sums = added_up(checked)
         self.n = n
         self.terms = tuple([(exponent, sums[exponent]) for exponent in sorted(list(sums), reverse=True)])
         self._coefficients = sums
@@ -165,17 +141,8 @@ class Letters:
         return isinstance(other, Letters) and self.n == other.n and self.terms == other.terms
 
     def __str__(self):
-        words = []
-        for exponent, coefficient in self.terms:
-            minus = coefficient.sign() < 0
-            if words:
-                words.append(" - " if minus else " + ")
-            elif minus:
-                words.append("-")
-            words.append(_term_text(exponent, coefficient))
-        if not words:
-            return "0"
-        return "".join(words)
+        terms = [(coefficient, _term_text(exponent, coefficient)) for exponent, coefficient in self.terms]
+        return "".join(signed_words(terms))
 
     def degree(self):
         """The greatest degree of a term, -1 for zero."""
@@ -248,7 +215,7 @@ class Letters:
 
 def letter(n, i):
     """The letter of the number `i` as a polynomial in `n` letters."""
-    _check_number(n)
+    check_number(n)
     if not is_integer(i) or i < 1 or i > n:
         raise Malformed("there is no letter of this number")
     return Letters(n, [(tuple([int(k == i) for k in range(1, n + 1)]), 1)])
@@ -256,11 +223,11 @@ def letter(n, i):
 
 def of_ratio(n, q):
     """The constant polynomial of a `Ratio` in `n` letters."""
-    _check_number(n)
+    check_number(n)
     return Letters(n, [((0,) * n, q)])
 
 
 def monomials(n, d):
     """All exponents of the degree `d` in `n` letters, descending."""
-    _check_number(n)
+    check_number(n)
     return tuple(shares([d] * n, d))

@@ -89,9 +89,13 @@ class TestModuleLevel(unittest.TestCase):
             self.assertEqual(len(names), len(set(names)), path.name)
 
     def test_imports_name_the_defining_file(self):
-        defined = {
-            path.stem: {node.name for node in tree.body if isinstance(node, (ast.FunctionDef, ast.ClassDef))}
-            for path, tree in trees()}
+        defined = {path.stem: set() for path, _ in trees()}
+        for path, tree in trees():
+            for node in tree.body:
+                if isinstance(node, (ast.FunctionDef, ast.ClassDef)):
+                    defined[path.stem].add(node.name)
+                elif isinstance(node, ast.Assign):
+                    defined[path.stem].update(target.id for target in node.targets)
         for path, node in walk(ast.ImportFrom):
             self.assertEqual((node.level, node.col_offset), (0, 0), place(path, node))
             known = OUTSIDE.get(node.module) or defined[node.module.removeprefix("fivebases.")]
@@ -156,6 +160,32 @@ class TestCode(unittest.TestCase):
                 self.assertIn(node.func.attr, own | METHODS, place(path, node))
         for path, node in walk(ast.Attribute):
             self.assertIn(node.attr, own | METHODS | attributes, place(path, node))
+
+    def test_stars_stand_before_names(self):
+        for path, node in walk(ast.Starred):
+            self.assertIsInstance(node.value, ast.Name, place(path, node))
+        for path, node in walk(ast.keyword):
+            self.assertIsNotNone(node.arg, place(path, node))
+
+    def test_keywords_of_builtins(self):
+        allowed = {"sorted": {"key", "reverse"}, "max": {"default"}, "min": {"default"}}
+        for path, node in walk(ast.Call):
+            if isinstance(node.func, ast.Name) and node.func.id in BUILTINS:
+                for keyword in node.keywords:
+                    self.assertIn(keyword.arg, allowed.get(node.func.id, ()), place(path, node))
+                    if keyword.arg == "key":
+                        self.assertIn(ast.unparse(keyword.value), ("len", "int", "str", "abs", "sum"))
+
+    def test_no_file_imports_itself_through_others(self):
+        reached = {
+            path.stem: {
+                node.module.removeprefix("fivebases.") for node in tree.body
+                if isinstance(node, ast.ImportFrom) and node.module not in OUTSIDE}
+            for path, tree in trees()}
+        for _ in reached:
+            reached = {name: behind.union(*(reached[x] for x in behind)) for name, behind in reached.items()}
+        for name, behind in reached.items():
+            self.assertNotIn(name, behind)
 
     def test_errors_are_made_where_they_are_raised(self):
         for path, node in walk(ast.Raise):
