@@ -27,10 +27,10 @@ def mergings(parts, sums):
 
 def monomial_row(base, part):
     """The row of a base function in the table to m."""
-    return _multiples(Symmetric(base, [(part, 1)]).meaning(), sum(part))
+    return multiples_of_degree(Symmetric(base, [(part, 1)]).meaning(), sum(part))
 
 
-def _multiples(f, n):
+def multiples_of_degree(f, n):
     """The multiples of a function in its base for all partitions of `n`."""
     return tuple([f.multiple(part) for part in partitions(n)])
 
@@ -99,4 +99,4 @@ def converted(n, row, one, two):
     if not isinstance(row, tuple) or len(row) != len(parts):
         raise Malformed("there is not one multiple for each partition")
     f = Symmetric(one, list(zip(parts, row)))
-    return _rows_from_m(n, [_multiples(f.meaning(), n)], two)[0]
+    return _rows_from_m(n, [multiples_of_degree(f.meaning(), n)], two)[0]

@@ -24,17 +24,17 @@ def partitions(n):
     """All partitions of `n`, from 0 to 12, in their order."""
     if not is_integer(n) or n < 0 or n > _MOST:
         raise Refused("large")
-    return tuple(_partitions_within(n, n))
+    return tuple(partitions_within(n, n))
 
 
-def _partitions_within(n, most):
+def partitions_within(n, most):
     """The list of the partitions of `n` without a part above `most`."""
     if n == 0:
         return [()]
     return [
         (part,) + rest
         for part in range(min(n, most), 0, -1)
-        for rest in _partitions_within(n - part, part)
+        for rest in partitions_within(n - part, part)
     ]
 
 

@@ -13,7 +13,7 @@ from pathlib import Path
 PACKAGE = Path(__file__).resolve().parent.parent / "fivebases"
 BUILTINS = set(
     "len range enumerate zip min max sum abs sorted reversed int str bool list tuple dict isinstance ord repr any all "
-    "divmod ValueError property".split())
+    "divmod set ValueError property".split())
 TAKEN = {name for name in dir(builtins) if not name.startswith("_")}
 OUTSIDE = {"math": {"gcd", "lcm", "isqrt", "comb", "perm", "factorial"}}
 METHODS = set(
@@ -30,7 +30,7 @@ STATEMENTS = (
     ast.ImportFrom, ast.Pass, ast.Break, ast.Continue)
 UNUSED = (
     ast.GeneratorExp, ast.Lambda, ast.Set, ast.SetComp, ast.Yield, ast.YieldFrom, ast.Await, ast.NamedExpr, ast.Div,
-    ast.MatMult, ast.Is, ast.IsNot)
+    ast.MatMult)
 
 
 def trees():
@@ -110,6 +110,19 @@ class TestCode(unittest.TestCase):
             self.assertIsInstance(node, STATEMENTS, place(path, node))
         for path, tree in trees():
             self.assertFalse([node for node in ast.walk(tree) if isinstance(node, UNUSED)], path.name)
+
+    def test_sameness_is_asked_of_none_alone(self):
+        for path, node in walk(ast.Compare):
+            for operator, value in zip(node.ops, node.comparators):
+                if isinstance(operator, (ast.Is, ast.IsNot)):
+                    self.assertEqual(ast.unparse(value), "None", place(path, node))
+
+    def test_sets_stand_in_sorted_alone(self):
+        sets = [(path, node) for path, node in walk(ast.Call) if ast.unparse(node.func) == "set"]
+        sorts = [node for _, node in walk(ast.Call) if ast.unparse(node.func) == "sorted" and not node.keywords]
+        within = [ast.unparse(argument) for node in sorts for argument in node.args]
+        for path, node in sets:
+            self.assertIn(ast.unparse(node), within, place(path, node))
 
     def test_exponents_are_small_literals(self):
         for path, node in walk(ast.BinOp):
