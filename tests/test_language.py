@@ -27,7 +27,7 @@ BARRED_WORDS = (
     "typing enum Enum IntEnum StrEnum Flag IntFlag Generic Protocol ABC namedtuple NamedTuple TypedDict").split()
 STATEMENTS = (
     ast.FunctionDef, ast.ClassDef, ast.Return, ast.Assign, ast.For, ast.While, ast.If, ast.Raise, ast.Expr,
-    ast.ImportFrom, ast.Pass, ast.Break, ast.Continue)
+    ast.ImportFrom, ast.Pass, ast.Break, ast.Continue, ast.Try)
 UNUSED = (
     ast.GeneratorExp, ast.Lambda, ast.Set, ast.SetComp, ast.Yield, ast.YieldFrom, ast.Await, ast.NamedExpr, ast.Div,
     ast.MatMult)
@@ -199,6 +199,13 @@ class TestCode(unittest.TestCase):
             reached = {name: behind.union(*(reached[x] for x in behind)) for name, behind in reached.items()}
         for name, behind in reached.items():
             self.assertNotIn(name, behind)
+
+    def test_own_errors_alone_are_caught(self):
+        own = {"Fault", "ZeroDivisor", "Malformed", "Refused", "NoText"}
+        for path, node in walk(ast.Try):
+            self.assertFalse(node.finalbody + node.orelse, place(path, node))
+        for path, node in walk(ast.ExceptHandler):
+            self.assertIn(ast.unparse(node.type), own, place(path, node))
 
     def test_errors_are_made_where_they_are_raised(self):
         for path, node in walk(ast.Raise):
