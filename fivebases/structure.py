@@ -10,6 +10,9 @@ from fivebases.partition import joined, partitions, z_number
 from fivebases.ratio import Ratio, total
 from fivebases.symmetric import MOST_DEGREE, Symmetric, is_base
 
+# The base whose functions have the inner products 1 and 0 with those of a base.
+_DUAL_BASES = {"m": "h", "h": "m", "s": "s"}
+
 
 def in_base(f, base):
     """The equal function of a base."""
@@ -45,6 +48,8 @@ def product(f, g):
 
 def inner(f, g):
     """The inner product."""
+    if _DUAL_BASES.get(f.base) == g.base:
+        return total([multiple * g.multiple(part) for part, multiple in f.terms])
     powers = in_base(g, "p")
     return total([
         multiple * powers.multiple(part) * Ratio(z_number(part))
@@ -73,9 +78,10 @@ def _parts_left(part, others):
 
 def skewed(f, g):
     """The function `f / g` by the base of `f`."""
+    powers, others = in_base(f, "p"), in_base(g, "p")
     pairs = []
-    for part, multiple in in_base(f, "p").terms:
-        for other, more in in_base(g, "p").terms:
+    for part, multiple in powers.terms:
+        for other, more in others.terms:
             rest = _parts_left(part, other)
             if rest is not None:
                 # The derivatives give the quotient of the z numbers.

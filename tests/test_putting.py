@@ -70,6 +70,10 @@ class TestPut(unittest.TestCase):
         self.assertEqual(str(put(one("h", (2,)), one("h", (2,)))), "h[4] - h[3,1] + h[2,2]")
         self.assertEqual(str(put(one("s", (2,)), one("s", (2,)))), "s[4] + s[2,2]")
         self.assertEqual(str(put(one("s", (1, 1)), one("e", (2,)))), "s[2,1,1]")
+        for base, k, j, text in [
+                ("h", 2, 4, "s[8] + s[6,2] + s[4,4]"), ("e", 2, 4, "s[7,1] + s[5,3]"),
+                ("h", 4, 2, "s[8] + s[6,2] + s[4,4] + s[4,2,2] + s[2,2,2,2]")]:
+            self.assertEqual(str(in_base(put(one(base, (k,)), one("h", (j,))), "s")), text)
 
     def test_linear_in_the_first_and_keeps_its_products(self):
         for base, other in PAIRS:

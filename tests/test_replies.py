@@ -163,8 +163,8 @@ class TestErrors(ReplyCase):
 
 LINES = [
     "let x = e[2,1]", "let x = e[2, 1]", "plus x a b", "minus x a q", "times x big a", "skew x c b", "put x b b",
-    "put x a number", "scale x 1/2 a", "turn x c", "turn a c", "plus a a b", "equal a b", "equal a a", "equal a q", "pair b b", "pair q q",
-    "count 2.1 1.1.1", "insert 212", "", "# x", "nothing", "change q m", 5, None, True, ("turn a b",), ["x"]]
+    "put x a number", "scale x 1/2 a", "turn x c", "turn a c", "plus a a b", "equal a b", "equal a a", "equal a q",
+    "pair b b", "pair q q", "count 2.1 1.1.1", "insert 212", "", "# x", "nothing", "change q m", 5, None, True, ("turn a b",), ["x"]]
 REPLIES = [
     ("function", "e[2,1]"), ("function", "0"), ("equal", "yes"), ("equal", "no"), ("number", "0"), ("number", "2"),
     ("pair", "1.2/2 | 1.3/2"), ("done", ""), TEXT, NAME, ("error", "malformed"), ("error", "refused degree")]
